@@ -1,0 +1,1 @@
+"""Contracts through inheritance, and who is to blame."""
