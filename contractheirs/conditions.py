@@ -2,7 +2,7 @@
 
 from contractheirs.cases import decide, negated
 from contractheirs.errors import BadCond, NoValue
-from contractheirs.forms import is_clause, is_integer, is_term
+from contractheirs.forms import is_clause, is_integer, is_literal_over_terms
 
 MOST_CLAUSES = 4
 MOST_LITERALS = 2
@@ -10,9 +10,7 @@ MOST_LITERALS = 2
 
 def _can_stand(thing):
     """Whether a thing is a clause of one or two literals over terms."""
-    if not is_clause(thing, MOST_LITERALS):
-        return False
-    return all([is_term(left) and is_term(right) for left, right, _ in thing])
+    return is_clause(thing, MOST_LITERALS) and all([is_literal_over_terms(literal) for literal in thing])
 
 
 def _first_wrong(clauses):

@@ -1,7 +1,12 @@
-"""What an integer, a word, a term, a literal and a clause are."""
+"""What an integer, a word, a name, a term, a literal and a clause are."""
 
 LETTERS = "abcdefghijklmnopqrstuvwxyz"
 LONGEST_WORD = 8
+# Words that texts and conditions use for something else.
+NO_NAMES = (
+    "as", "ask", "body", "call", "class", "else", "field", "halt", "if", "int", "let", "method", "next", "none",
+    "post", "pre", "result", "return", "self", "try", "where", "zero",
+)
 
 
 def is_integer(thing):
@@ -14,6 +19,18 @@ def is_word(thing):
     if not isinstance(thing, str) or not 1 <= len(thing) <= LONGEST_WORD:
         return False
     return all([letter in LETTERS for letter in thing])
+
+
+def is_name(thing):
+    """Whether a thing is a word that may be a name."""
+    return is_word(thing) and thing not in NO_NAMES
+
+
+def are_names(things, most):
+    """Whether a thing is a tuple of at most so many different names."""
+    if not isinstance(things, tuple) or len(things) > most or not all([is_name(one) for one in things]):
+        return False
+    return len(set(things)) == len(things)
 
 
 def is_term(thing):
@@ -32,6 +49,11 @@ def is_literal(thing):
         return False
     left, right, number = thing
     return isinstance(left, str) and isinstance(right, str) and is_integer(number)
+
+
+def is_literal_over_terms(thing):
+    """Whether a thing is a literal whose two strings are terms."""
+    return is_literal(thing) and is_term(thing[0]) and is_term(thing[1])
 
 
 def is_clause(thing, most):

@@ -1,7 +1,11 @@
 """What several tests need: things of all kinds, and a checker of trees and values of its own."""
 
 from contractheirs import errors
+from contractheirs.checks import BodyCheck, CallCheck, Check, HeirEntry, HeirExit, NewCheck
+from contractheirs.classes import ClassDef, Method
 from contractheirs.conditions import Cond
+from contractheirs.libraries import Library
+from contractheirs.slots import Slot
 
 GREAT = 10 ** 100 - 1
 
@@ -32,7 +36,8 @@ def things():
         memoryview(b"abc"), {}, {0: 1}, {"x", "y", "z"}, frozenset([1]), range(3), slice(1, 2, 3), NotImplemented, ...,
         len, int, tuple, things, lambda: 0, iter([1, 2, 3]), (n for n in (1, 2, 3)), object(), zip([1], [2]),
         ValueError("x"), Cond(), Cond((("x", "y", 1),)), Cond, errors.BadCond(0), errors.TooLong("x"),
-        errors.ContractError,
+        errors.ContractError, Method("m", (), "int", body=("halt",)), ClassDef("a"), ClassDef, Slot("call", "a", "m"),
+        Library(), Check(), CallCheck(1), NewCheck(1), BodyCheck(1), HeirEntry(1, 2), HeirExit(1, 2, 3),
     ]
 
 

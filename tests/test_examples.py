@@ -4,9 +4,14 @@ import doctest
 import pathlib
 import unittest
 
+from contractheirs.bodies import check_client, sites
 from contractheirs.cases import closes, decide
+from contractheirs.checks import HeirEntry, HeirExit
+from contractheirs.classes import ClassDef, Method
 from contractheirs.conditions import Cond
 from contractheirs.errors import BadLibrary
+from contractheirs.libraries import Library
+from contractheirs.slots import Slot, line
 
 
 class Examples(unittest.TestCase):
@@ -20,10 +25,33 @@ class Examples(unittest.TestCase):
         word, tree = decide(rows)
         self.assertEqual([word, closes(rows, tree), closes(rows[:1], tree)], ['closed', True, False])
 
-    def test_errors(self):
+    def test_ring(self):
         with self.assertRaises(BadLibrary) as caught:
-            raise BadLibrary('a', 'ring')
+            Library(ClassDef('b'), ClassDef('a', ('a',)))
         self.assertEqual((caught.exception.at, caught.exception.why), ('a', 'ring'))
+
+    def test_two_classes_and_their_client(self):
+        first = Method('m', (('x', 'int'),), 'int', pre=Cond.between('x', 0, 9), body=('return', ('x', 0)))
+        second = Method('m', (('x', 'int'),), 'int', pre=Cond.between('x', 0, 5), body=('return', ('x', 1)))
+        library = Library(ClassDef('a', methods=(first,)), ClassDef('b', ('a',), methods=(second,)))
+        call = ('let', 'r', ('call', 't', 'm', (('', 7),)), ('return', ('r', 0)))
+        client = ('let', 'o', ('new', 'b', ()), ('let', 't', ('as', 'o', 'a'), call))
+        self.assertIs(check_client(library, client), None)
+        self.assertEqual(list(sites(library, 'b', 'm')), [('b', 'm', ())])
+        slot = Slot('call', 'a', 'm')
+        self.assertEqual((slot(library, 'b'), line(library, slot, 'b')), ('b', ['b', 'a']))
+        entry, back = HeirEntry('b', slot), HeirExit('b', slot, 'a')
+        self.assertEqual([entry.heir, entry.SIDE, back.above, back.SIDE], ['b', 'entry', 'a', 'exit'])
+
+    def test_client_without_classes(self):
+        client = ('let', 'v', ('ask',), ('if', ('v', '', 4), ('halt',), ('return', ('v', 2))))
+        self.assertIs(check_client(Library(), client), None)
+
+    def test_other_classes(self):
+        wheres = ClassDef('a', fields=('f',), where=Cond((('', 'self.f', 0),)))
+        self.assertEqual(Library(wheres).fields_of('a'), ['f'])
+        its = Method('m', (('x', 'int'),), 'int', post=Cond((('x', 'result', -1),)), body=('halt',))
+        self.assertEqual(Library(ClassDef('c', methods=(its,)))['c'].methods, (its,))
 
     def test_readme(self):
         readme = pathlib.Path(__file__).parent.parent / "README.md"

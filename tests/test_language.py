@@ -85,6 +85,25 @@ class Language(unittest.TestCase):
             if isinstance(node, (ast.arg, ast.ClassDef)):
                 self.assertFalse(hasattr(builtins, word), (name, node.lineno))
 
+    def test_no_name_is_a_method_and_an_attribute(self):
+        methods = {part.name for _, node in nodes(ast.ClassDef) for part in node.body if isinstance(part, ast.FunctionDef)}
+        values = {part.targets[0].id for _, node in nodes(ast.ClassDef) for part in node.body
+                  if isinstance(part, ast.Assign)}
+        attributes = {node.attr for _, node in nodes(ast.Attribute) if isinstance(node.ctx, ast.Store)}
+        self.assertEqual(methods & (attributes | values), set())
+        self.assertEqual(attributes & values, set())
+
+    def test_tables_are_not_passed_on(self):
+        # L15: a list or dict at module level is read where its name stands.
+        for path in FILES:
+            tree = ast.parse(path.read_text())
+            tables = [node.targets[0].id for node in tree.body
+                      if isinstance(node, ast.Assign) and isinstance(node.value, (ast.Dict, ast.List))]
+            for node in ast.walk(tree):
+                if isinstance(node, ast.Call):
+                    passed = [one.id for one in node.args if isinstance(one, ast.Name)]
+                    self.assertFalse([name for name in passed if name in tables], (path.name, node.lineno))
+
     def test_attributes(self):
         for name, node in nodes(ast.Attribute):
             if isinstance(node.ctx, ast.Store):
