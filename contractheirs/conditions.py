@@ -41,6 +41,14 @@ def _holds(clause, values):
     return any([_worth(left, values) <= _worth(right, values) + number for left, right, number in clause])
 
 
+def first_broken(clauses, values):
+    """The index of the first clause that does not hold for a dict from terms to integers, or None."""
+    for at, clause in enumerate(clauses):
+        if not _holds(clause, values):
+            return at
+    return None
+
+
 class Cond:
     """A condition: all of its clauses hold."""
 
@@ -58,7 +66,7 @@ class Cond:
                 for term in (left, right):
                     if term != "" and term not in values:
                         raise NoValue(term)
-        return all([_holds(clause, values) for clause in self.clauses])
+        return first_broken(self.clauses, values) is None
 
     def __and__(self, other):
         if not isinstance(other, Cond):

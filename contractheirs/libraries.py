@@ -1,7 +1,7 @@
 """Libraries: classes that fit together."""
 
 from contractheirs.bodies import wrong_method_body
-from contractheirs.classes import written
+from contractheirs.classes import ClassDef, written
 from contractheirs.errors import BadLibrary, NoClass, NoMethod
 from contractheirs.orders import all_orders
 from contractheirs.shapes import first_no_class, wrong_bases, wrong_class, wrong_heritage, wrong_method
@@ -14,6 +14,7 @@ class Library:
         at = first_no_class(classes)
         if at is not None:
             raise BadLibrary(at, "classes")
+        self.classes = classes
         self.names = tuple(sorted([one.name for one in classes]))
         self._table = {one.name: one for one in classes}
         _refuse(wrong_bases(self))
@@ -59,6 +60,13 @@ class Library:
             if written(self._table[each], method) is not None:
                 return each
         raise NoMethod(method)
+
+    def changed(self, classdef):
+        """The library with a class in the place of the one with its name, or behind all others."""
+        if isinstance(classdef, ClassDef) and classdef.name in self:
+            classes = [classdef if one.name == classdef.name else one for one in self.classes]
+            return Library(*classes)
+        return Library(*self.classes, classdef)
 
 
 def _refuse(found):

@@ -8,6 +8,7 @@ from contractheirs.classes import ClassDef, Method, written
 from contractheirs.conditions import Cond
 from contractheirs.forms import are_names, is_name
 from contractheirs.orders import is_above_itself
+from contractheirs.terms import terms_of
 
 MOST_CLASSES = 30
 MOST_BASES = 3
@@ -81,13 +82,6 @@ def wrong_class(library):
             if is_wrong(library, name):
                 return (name, word)
     return None
-
-
-def terms_of(library, name, kind):
-    """The terms of a thing of a kind: of an integer its name, of an object those of its fields."""
-    if kind == "int":
-        return [name]
-    return [name + "." + field for field in library.fields_of(kind)]
 
 
 def _is_over(cond, terms):

@@ -48,6 +48,27 @@ def method(name, params, result, body=HALT):
 
 X = (("x", "int"),)
 MANY = (("x", "int"), ("p", "low"), ("q", "top"))
+NEVER = (("", "", -1),)
+ALWAYS = (("", "", 0),)
+
+
+def most(term, number):
+    """The clause that a term is at most a number."""
+    return ((term, "", number),)
+
+
+def least(term, number):
+    return (("", term, -number),)
+
+
+def writing(name, bases=(), pre=None, post=None, body=BACK, fields=(), where=None, params=X, result="int"):
+    made = Method("m", params, result, pre=pre, post=post, body=body)
+    return ClassDef(name, bases, fields=fields, where=where, methods=(made,))
+
+
+def asking(name, view, number, rest=("return", ("r", 0))):
+    """A client that calls m of a new object of a class, seen as another one."""
+    return let("o", new(name), let("t", ("as", "o", view), let("r", call("t", "m", ("", number)), rest)))
 
 
 def classes(**bodies):

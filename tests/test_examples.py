@@ -9,8 +9,10 @@ from contractheirs.cases import closes, decide
 from contractheirs.checks import HeirEntry, HeirExit
 from contractheirs.classes import ClassDef, Method
 from contractheirs.conditions import Cond
+from contractheirs.duties import duties, verdict
 from contractheirs.errors import BadLibrary
 from contractheirs.libraries import Library
+from contractheirs.runs import breaches, run
 from contractheirs.slots import Slot, line
 
 
@@ -43,9 +45,29 @@ class Examples(unittest.TestCase):
         entry, back = HeirEntry('b', slot), HeirExit('b', slot, 'a')
         self.assertEqual([entry.heir, entry.SIDE, back.above, back.SIDE], ['b', 'entry', 'a', 'exit'])
 
+    def test_breaches(self):
+        first = Method('m', (('x', 'int'),), 'int', pre=Cond.between('x', 0, 9), body=('return', ('x', 0)))
+        second = Method('m', (('x', 'int'),), 'int', pre=Cond.between('x', 0, 5), body=('return', ('x', 1)))
+        library = Library(ClassDef('a', methods=(first,)), ClassDef('b', ('a',), methods=(second,)))
+        call = ('let', 'r', ('call', 't', 'm', (('', 7),)), ('return', ('r', 0)))
+        client = ('let', 'o', ('new', 'b', ()), ('let', 't', ('as', 'o', 'a'), call))
+        breach = breaches(library, client, [])[0]
+        self.assertEqual([breach.kind, breach.blamed, breach.of, breach.site, breach.numbers, breach.clause],
+                         ['heir', 'b', 'b', (None, None, (0, 0)), {'x': 7}, 1])
+
+    def test_duties(self):
+        first = Method('m', (('x', 'int'),), 'int', pre=Cond.between('x', 0, 9), body=('return', ('x', 0)))
+        second = Method('m', (('x', 'int'),), 'int', pre=Cond.between('x', 0, 5), body=('return', ('x', 1)))
+        library = Library(ClassDef('a', methods=(first,)), ClassDef('b', ('a',), methods=(second,)))
+        entry, back = list(duties(library))
+        self.assertEqual([entry.heir, entry.SIDE, verdict(library, entry)[0], back.above, back.SIDE, verdict(library, back)[0]],
+                         ['b', 'entry', 'broken', 'a', 'exit', 'kept'])
+
     def test_client_without_classes(self):
         client = ('let', 'v', ('ask',), ('if', ('v', '', 4), ('halt',), ('return', ('v', 2))))
         self.assertIs(check_client(Library(), client), None)
+        self.assertEqual([run(Library(), client, [5]), run(Library(), client, [4]), run(Library(), client, [])],
+                         [('returned', 7), ('halted',), ('halted',)])
 
     def test_other_classes(self):
         wheres = ClassDef('a', fields=('f',), where=Cond((('', 'self.f', 0),)))

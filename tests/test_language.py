@@ -118,6 +118,49 @@ class Language(unittest.TestCase):
             if isinstance(node.func, ast.Name) and node.func.id in ("any", "all", "sum", "min", "max", "sorted"):
                 self.assertFalse([one for one in node.args if isinstance(one, ast.GeneratorExp)], (name, node.lineno))
 
+    def test_stars_in_calls(self):
+        # L7: names, attributes off a name, literals, and lists, tuples and dicts of these.
+        def is_plain(node):
+            if isinstance(node, (ast.List, ast.Tuple)):
+                return all(is_plain(one) for one in node.elts)
+            if isinstance(node, ast.Attribute):
+                return isinstance(node.value, ast.Name)
+            return isinstance(node, (ast.Name, ast.Constant))
+        for name, node in nodes(ast.Call):
+            at = [k for k, one in enumerate(node.args) if isinstance(one, ast.Starred)]
+            if at:
+                rest = [one.value if isinstance(one, ast.Starred) else one for one in node.args[at[0]:]]
+                self.assertTrue(all(is_plain(one) for one in rest), (name, node.lineno))
+
+    def test_generators_are_iterated_at_once(self):
+        # L23: by a loop, a comprehension or one of some builtins; and nothing else has the name of one.
+        functions = [(name, node) for name, node in nodes(ast.FunctionDef)]
+        yielding = {node.name for _, node in functions if any(isinstance(one, (ast.Yield, ast.YieldFrom)) for one in ast.walk(node))}
+        self.assertEqual([node.name for _, node in functions if node.name in yielding], sorted(yielding, key=[
+            node.name for _, node in functions].index))
+        allowed = set()
+        for _, node in nodes((ast.For, ast.comprehension)):
+            allowed.add((node.iter.lineno, node.iter.col_offset) if isinstance(node.iter, ast.Call) else None)
+        for _, node in nodes(ast.Call):
+            if isinstance(node.func, ast.Name) and node.func.id in ("list", "tuple", "sorted", "dict"):
+                allowed.update((one.lineno, one.col_offset) for one in node.args)
+        for name, node in nodes(ast.Call):
+            if isinstance(node.func, ast.Name) and node.func.id in yielding:
+                self.assertIn((node.lineno, node.col_offset), allowed, name)
+        calls = {(name, node.func.lineno, node.func.col_offset) for name, node in nodes(ast.Call)}
+        for name, node in nodes(ast.Name):
+            if node.id in yielding:
+                self.assertIn((name, node.lineno, node.col_offset), calls)
+
+    def test_errors_are_created_where_they_are_raised(self):
+        # L19.
+        for name, node in nodes(ast.Raise):
+            if node.exc is not None:
+                self.assertIsInstance(node.exc, ast.Call, (name, node.lineno))
+                self.assertTrue(node.exc.func.id[0].isupper(), (name, node.lineno))
+            if node.cause is not None:
+                self.assertIsInstance(node.cause, ast.Name, (name, node.lineno))
+
     def test_constants(self):
         for name, node in nodes(ast.Constant):
             self.assertNotIsInstance(node.value, (float, complex), name)
