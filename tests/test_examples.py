@@ -1,9 +1,10 @@
-"""The examples of the document for what is there so far, and those of README.md."""
+"""The examples of the document, and those of README.md."""
 
 import doctest
 import pathlib
 import unittest
 
+from contractheirs.answers import answer
 from contractheirs.bodies import check_client, sites
 from contractheirs.cases import closes, decide
 from contractheirs.checks import HeirEntry, HeirExit
@@ -14,6 +15,7 @@ from contractheirs.errors import BadLibrary
 from contractheirs.libraries import Library
 from contractheirs.runs import breaches, run
 from contractheirs.slots import Slot, line
+from contractheirs.texts import shown
 
 
 class Examples(unittest.TestCase):
@@ -69,11 +71,13 @@ class Examples(unittest.TestCase):
         self.assertEqual([run(Library(), client, [5]), run(Library(), client, [4]), run(Library(), client, [])],
                          [('returned', 7), ('halted',), ('halted',)])
 
-    def test_other_classes(self):
+    def test_text(self):
         wheres = ClassDef('a', fields=('f',), where=Cond((('', 'self.f', 0),)))
-        self.assertEqual(Library(wheres).fields_of('a'), ['f'])
+        self.assertEqual(shown(Library(wheres)), 'class a\n  field f\n  where zero <= self.f + 0')
+
+    def test_answer(self):
         its = Method('m', (('x', 'int'),), 'int', post=Cond((('x', 'result', -1),)), body=('halt',))
-        self.assertEqual(Library(ClassDef('c', methods=(its,)))['c'].methods, (its,))
+        self.assertEqual(answer(Library(ClassDef('c', methods=(its,))), 'c', 'm', {'x': 4}), 5)
 
     def test_readme(self):
         readme = pathlib.Path(__file__).parent.parent / "README.md"
