@@ -49,11 +49,5 @@ class Lines:
         return Rung(name, writer, written(self.library[writer], slot.method))
 
     def heirs_ahead(self, rungs, above):
-        """The heirs of a class of a line that stand ahead of it, in their order."""
-        found = []
-        for rung in rungs:
-            if rung.name == above:
-                break
-            if self.is_heir(rung.name, above):
-                found.append(rung.name)
-        return found
+        """The heirs of a class of a line, in their order; each of them stands ahead of it."""
+        return [rung.name for rung in rungs if self.is_heir(rung.name, above)]

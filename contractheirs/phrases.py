@@ -87,8 +87,8 @@ def field_row(row):
 
 def _enclosed(text):
     """What stands ahead of parentheses and what in them, as a pair; the end of the text closes them."""
-    ahead, sign, rest = text.partition("(")
-    return (ahead, rest[:-1]) if sign == "(" and rest.endswith(")") else None
+    ahead, _, rest = text.partition("(")
+    return (ahead, rest[:-1]) if rest.endswith(")") else None
 
 
 def _all(look, text):

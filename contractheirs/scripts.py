@@ -39,12 +39,12 @@ def rewritten(library, bodies):
     """The classes of a library with the bodies of a dict by (class, method); a body that is not there is a halt."""
     found = []
     for one in library.classes:
-        methods = [with_body(method, bodies.get((one.name, method.name), HALT)) for method in one.methods]
+        methods = [_with_body(method, bodies.get((one.name, method.name), HALT)) for method in one.methods]
         found.append(ClassDef(one.name, one.bases, fields=one.fields, where=one.where, methods=tuple(methods)))
     return found
 
 
-def with_body(method, body):
+def _with_body(method, body):
     """A method with another body."""
     return Method(method.name, method.params, method.result, pre=method.pre, post=method.post, body=body)
 

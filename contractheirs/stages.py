@@ -25,11 +25,13 @@ def _calls_itself(method):
 def _heirs(library, owner, method, kinds):
     """The names of further classes for those of some kinds for which the body of the site would answer."""
     found = {}
-    names = free_classes(library, len(library.names) + 1)
+    if not _calls_itself(method):
+        return found
+    names = free_classes(library, len(library.names))
     for kind in kinds:
-        if kind != "int" and method.name in library.methods_of(kind) and _calls_itself(method):
+        if kind != "int" and kind not in found and method.name in library.methods_of(kind):
             if library.writer_of(kind, method.name) == owner:
-                found.setdefault(kind, names[len(found)])
+                found[kind] = names[len(found)]
     return found
 
 
@@ -99,7 +101,7 @@ class Stage:
         self.spoilt = free_classes(self.library, len(self.heirs) + 1)[-1]
         return ("let", self.writer.variables[0], ("new", self.spoilt, (("", 0),)), HALT)
 
-    def make_client(self):
+    def opening(self):
         """A client that calls the method on self."""
         view = self.heirs.get(self.owner, self.owner)
         return self.writer.make_client(self.method, "", self.owner, view)

@@ -3,9 +3,9 @@
 from contractheirs.bodies import sites
 from contractheirs.checks import BodyCheck, CallCheck, NewCheck
 from contractheirs.duties import all_kept, kept_duties
+from contractheirs.judging import judged
 from contractheirs.lines import Lines
 from contractheirs.paths import Walk, site_method, site_spot
-from contractheirs.judging import judged
 from contractheirs.spots import claims_at
 from contractheirs.terms import each_once
 

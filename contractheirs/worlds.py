@@ -29,7 +29,7 @@ def spoiling_world(library, name, method, place):
     spot, _, _, values = found
     stage = Stage(library, name, its, values, spot.events)
     classes = stage.all_classes()
-    return World(Library(*classes), stage.make_client(), stage.tape)
+    return World(Library(*classes), stage.opening(), stage.tape)
 
 
 def blaming_world(library, duty):

@@ -139,7 +139,7 @@ class Kinds(unittest.TestCase):
         post = Cond(least("result", 0), (("result", "self.f", 0),))
         library = Library(
             writing("a", pre=Cond(most("x", 9)), post=post, body=("return", ("x", 0)), fields=("f",)),
-            ClassDef("b", ("a",), fields=("g",)), writing("c", pre=Cond(most("x", 9)), post=Cond(*post.clauses[:1])),
+            ClassDef("b", ("a",), fields=("g",)), writing("c", pre=Cond(most("x", 9)), post=post, fields=("f",)),
         )
         client = let("o", new("b", ("", 1), ("", 2)), let("r", call("o", "m", ("", 6)), BACK))
         breach = self.found(library, client, "body", "exit")
@@ -157,7 +157,8 @@ class Kinds(unittest.TestCase):
 
     def test_heir_at_entry(self):
         library = Library(
-            writing("a", pre=Cond(most("x", 9)), fields=("f",)), writing("b", ("a",), pre=Cond(least("x", 0))),
+            writing("a", pre=Cond(most("x", 9), most("self.f", 5)), fields=("f",)),
+            writing("b", ("a",), pre=Cond(least("x", 0), most("x", 8))),
             writing("c", ("b",), pre=Cond(most("x", 5), most("self.f", 7))),
         )
         client = let("o", new("c", ("", 1)), let("t", ("as", "o", "a"), let("r", call("t", "m", ("", 6)), BACK)))
@@ -165,14 +166,20 @@ class Kinds(unittest.TestCase):
         self.assertEqual(breach.of, "c")
         self.each_part(library, breach, ["x", "self.f"], blamed=["a", "b", None], of=["a", "b"],
                        slot=[Slot("call", "c", "m"), Slot("next", "c", "m"), Slot("next", "b", "m"), Slot("call", "a", "n")])
-        self.assertIs(at_fault(library, with_part(breach, slot=Slot("call", "b", "m"))), True)
+        below = Slot("call", "b", "m")
+        self.assertIs(at_fault(library, with_part(breach, slot=below)), True)
         # The other classes of the line are asked, too.
-        for number, wanted in [(5, False), (6, True), (9, True), (10, False), (-1, False)]:
+        for number, wanted in [(5, False), (6, True), (8, True), (9, False), (10, False), (-1, False)]:
             self.assertIs(at_fault(library, with_part(breach, numbers={"x": number, "self.f": 1})), wanted)
-        self.assertIs(at_fault(library, with_part(breach, numbers={"x": 10, "self.f": 1}, slot=Slot("call", "b", "m"))), True)
+        numbers = {"x": 6, "self.f": 6}
+        self.assertIs(at_fault(library, with_part(breach, numbers=numbers)), False)
+        self.assertIs(at_fault(library, with_part(breach, numbers=numbers, slot=below)), True)
         # The owner is no heir of itself.
-        self.assertIs(at_fault(library, with_part(breach, of="a", blamed="a", numbers={"x": 10, "self.f": 1})), False)
-        self.assertIs(at_fault(library, with_part(breach, of="b", blamed="b", numbers={"x": -1})), True)
+        numbers = {"x": 10, "self.f": 1}
+        self.assertIs(at_fault(library, with_part(breach, of="a", blamed="a", numbers=numbers)), False)
+        self.assertIs(at_fault(library, with_part(breach, of="b", blamed="b", numbers={"x": -1, "self.f": 1})), True)
+        self.assertIs(at_fault(library, with_part(breach, of="b", blamed="b", numbers={"x": -1, "self.f": 6})), False)
+        self.assertIs(at_fault(library, with_part(breach, of="b", blamed="b", slot=below, numbers={"x": -1})), False)
 
     def test_heir_at_exit(self):
         library = Library(

@@ -203,6 +203,14 @@ class Refused(unittest.TestCase):
                     other = " " * depth + row.lstrip()
                     self.bad(at, "\n".join(self.rows[:at] + [other] + self.rows[at + 1:]))
 
+    def test_only_blanks_indent(self):
+        for at, row in enumerate(self.rows):
+            depth = len(row) - len(row.lstrip())
+            if depth:
+                for sign in ["\t", "x", "-", "\r"]:
+                    for other in [sign * depth, sign + " " * (depth - 1), " " * (depth - 1) + sign]:
+                        self.bad(at, "\n".join(self.rows[:at] + [other + row.lstrip()] + self.rows[at + 1:]))
+
     def test_each_row_is_spoilt_by_its_form(self):
         for at, row in enumerate(self.rows):
             others = [row + " ", row + " X", row + "\r", row + "\t", row[:-1] + "%", row.upper(), row.replace("  ", "\t") + "  ",

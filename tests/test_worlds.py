@@ -198,6 +198,32 @@ class Spoilt(Worlds):
         self.assertEqual(self.all_spoilt(library), [(0,)])
 
 
+    def test_further_classes_only_where_they_are_wanted(self):
+        plain = a(("return", ("x", 0)), post=Cond(most("result", 4)))
+        self.assertEqual(spoiling_world(plain, "a", "m", ()).library.names, ("a",))
+        own = a(let("r", call("self", "m", ("x", 0)), ("return", ("x", 0))), post=Cond(most("result", 4)))
+        self.assertEqual(len(spoiling_world(own, "a", "m", (0,)).library.names), 2)
+
+    def test_names_that_are_taken(self):
+        # All short words, also as names of parameters, so that what a world adds needs other names.
+        words = [one + other for one in "abc" for other in "abcdefghijklmnopqrstuvwxyz"]
+        words.remove("as")
+        rows = []
+        for k in range(13):
+            params = [tuple((word, "int") for word in words[6 * k + 3 * at:6 * k + 3 * at + 3]) for at in range(2)]
+            methods = tuple(Method("mn"[at], params[at], "int", body=HALT) for at in range(2))
+            rows.append(ClassDef(words[k], methods=methods))
+        its = (("aa", "int"), ("ab", "zz"), ("ac", "int"))
+        fail = attempt(let("r", call("ab", "m", ("aa", 0), "self", ("ac", 0)), let("s", call("self", "m", ("r", 0), "ab", ("ac", 1)), HALT)),
+                       let("v", ASK, ("return", ("v", 0))))
+        rows.append(ClassDef("zz", methods=(Method("m", its, "int", pre=Cond((("aa", "ac", 0),)), post=Cond(most("result", 7)), body=fail),)))
+        library = Library(*rows)
+        self.assertEqual(self.all_spoilt(library, "zz"), [(0, 0), (1, 0)])
+        heir = ClassDef("yy", ("zz",), methods=(Method("m", its, "int", pre=Cond((("aa", "ac", -1),)), body=HALT),))
+        library = Library(*rows[1:], heir)
+        self.assertIs(self.blamed(library, HeirEntry("yy", Slot("call", "zz", "m"))), True)
+
+
 class SpoiltTries(Worlds):
 
     def test_in_a_first_part(self):
@@ -225,6 +251,12 @@ class SpoiltTries(Worlds):
     def test_behind_a_call_that_breached_within(self):
         other = Method("n", X, "int", pre=Cond(least("x", 0)), post=Cond((("result", "x", 0),)), body=HALT)
         first = let("r", call("self", "n", ("x", 0)), let("s", call("self", "n", ("r", 5)), BACK))
+        # Also where nothing is known of x, but n asks something.
+        for asks in (Cond(least("x", 0)), Cond(most("x", 0)), Cond(least("x", 1)), Cond(most("x", -1))):
+            second = let("v", ASK, ("return", ("v", 0)))
+            made = a(attempt(let("r", call("self", "n", ("x", 0)), BACK), second), methods=(Method("n", X, "int", pre=asks, body=HALT),),
+                     post=Cond(most("result", 9)))
+            self.assertIn((1, 0), self.all_spoilt(made))
         for pre in (Cond(least("x", 0)), Cond(most("x", -1)), Cond()):
             library = a(attempt(first, let("v", ASK, ("return", ("v", 0)))), methods=(other,), pre=pre, post=Cond(most("result", 9)))
             self.assertIn((1, 0), self.all_spoilt(library))
